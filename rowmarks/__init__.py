@@ -1,0 +1,1 @@
+"""Rowmarks: row locks that are kept in the rows themselves."""
