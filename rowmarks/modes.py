@@ -3,6 +3,7 @@
 from rowmarks.errors import BadMode
 
 RANKS = {"hold": 1, "keep": 2, "change": 3, "replace": 4}
+CHANGES = ("change", "replace")
 CLASH = 5
 
 
@@ -11,9 +12,19 @@ def is_mode(value):
     return isinstance(value, str) and value in RANKS
 
 
+def is_change(value):
+    """Whether a value is a mode that a change of a row can have."""
+    return value in CHANGES
+
+
 def rank_of(word):
     """The rank of a mode; a lesser rank is weaker."""
     return RANKS[word]
+
+
+def clash(word, other):
+    """Whether two transactions cannot have these modes on one row."""
+    return RANKS[word] + RANKS[other] >= CLASH
 
 
 class Mode:
@@ -40,7 +51,7 @@ class Mode:
 
     def clashes(self, other):
         """Whether two transactions cannot have these modes on one row."""
-        return self.rank + other.rank >= CLASH
+        return clash(self.word, other.word)
 
     def __or__(self, other):
         return other if self.is_weaker(other) else self

@@ -41,3 +41,37 @@ def picture(fates):
         transactions(fates),
         all_parts(fates),
     )
+
+
+def list_picture(some):
+    """All that a LockList tells."""
+    numbers = range(1, len(transactions(some)) + 1)
+    return (
+        picture(some),
+        some.entries(),
+        [(some.is_idle(at), some.covers(at)) for at in range(len(some.entries()))],
+        [[some.profile(number, name) for number in numbers] for name in some.names],
+        [
+            [some.blockers(name, mode, asker=asker) for asker in [None, *numbers]]
+            for name in some.names
+            for mode in ("hold", "keep", "change", "replace")
+        ],
+    )
+
+
+def book_picture(book):
+    """All that a SetBook tells of itself."""
+    return len(book), book.taken(), [book[number] for number in book.taken()]
+
+
+def row_picture(row, fates):
+    """All that a Row tells, by some fates."""
+    return (
+        row.kept(),
+        [row[number] for number in row.kept()],
+        [row.mark(number) for number in row.kept()],
+        row.standing(fates),
+        row.base(fates),
+        row.newest(fates),
+        row.changer(fates),
+    )

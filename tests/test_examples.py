@@ -20,6 +20,27 @@ FATES = """
     [None, 2, 2, 5, None, 'rolled back', 6]
 """
 
+CANONICAL = """
+    >>> from rowmarks.fates import Fates
+    >>> from rowmarks.members import canonical
+    >>> fates = Fates()
+    >>> begun = [fates.begin(), fates.save(1), fates.begin()]
+    >>> some = [(3, "locks", "hold"), (2, "locks", "keep"), (1, "locks", "hold"), (2, "changes", "change")]
+    >>> canonical(some, fates)
+    ((1, 'locks', 'hold'), (2, 'changes', 'change'), (3, 'locks', 'hold'))
+    >>> [fates.back(1), canonical(some, fates)]
+    [None, ((1, 'locks', 'hold'), (3, 'locks', 'hold'))]
+"""
+
+LOCK_LIST = """
+    >>> from rowmarks.locklists import LockList
+    >>> some = LockList(["x"])
+    >>> [some.begin(), some.lock(1, "x", "hold"), some.save(1), some.change(1, "x", "change"), some.profile(1, "x")]
+    [1, None, 2, None, ('hold', 'change')]
+    >>> [some.blockers("x", "keep"), some.back(1), some.blockers("x", "keep"), some.blockers("x", "replace")]
+    [[1], None, [], [1]]
+"""
+
 
 class Examples(unittest.TestCase):
     def check(self, name, text):
@@ -34,6 +55,12 @@ class Examples(unittest.TestCase):
 
     def test_stage_2(self):
         self.check("fates", FATES)
+
+    def test_stage_3(self):
+        self.check("canonical", CANONICAL)
+
+    def test_stage_4(self):
+        self.check("lock list", LOCK_LIST)
 
 
 if __name__ == "__main__":

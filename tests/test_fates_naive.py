@@ -1,12 +1,17 @@
-"""Points 4 and 5 against a second, naive program: all short histories and some long ones."""
+"""Points 4 and 5 against a second, naive program: all short histories and some long ones.
+
+A LockList is a Fates too, and keeps these points with the same methods.
+"""
 
 import copy
 import unittest
 
 from rowmarks.errors import MarkError
 from rowmarks.fates import Fates
+from rowmarks.locklists import LockList
 from naive import OPERATIONS, Naive
 from pictures import picture
+from walker import Walker
 
 DEPTH = 6
 WALKS = 12
@@ -17,17 +22,6 @@ LOUD = ("begin",) + OPERATIONS
 
 def steps_of(numbers):
     return [("begin",), ("crash",)] + [(word, number) for word in OPERATIONS for number in numbers]
-
-
-class Walker:
-    """Numbers in a fixed order that looks like none."""
-
-    def __init__(self, seed):
-        self.now = seed
-
-    def pick(self, some):
-        self.now = (self.now * 6364136223846793005 + 1442695040888963407) % 2 ** 64
-        return some[(self.now >> 33) % len(some)]
 
 
 class Compared(unittest.TestCase):
@@ -58,15 +52,25 @@ class Compared(unittest.TestCase):
     def test_all_short_histories(self):
         self.assertGreater(self.search(Fates(), Naive(), DEPTH), 6000)
 
+    def test_all_short_histories_of_a_lock_list(self):
+        self.assertGreater(self.search(LockList(("x", "y")), Naive(), DEPTH - 1), 1000)
+
+    def walk(self, fates, walker):
+        naive = Naive()
+        for _ in range(STEPS):
+            numbers = naive.running() * 3 + list(range(len(naive.states) + 2))[-3:]
+            words = LOUD if walker.pick(range(5)) == 0 else CALM
+            word = "crash" if walker.pick(range(60)) == 0 else walker.pick(words)
+            step = (word,) if word in ("begin", "crash") else (word, walker.pick(numbers))
+            self.step(fates, naive, step)
+
     def test_long_histories(self):
         for seed in range(WALKS):
-            fates, naive, walker = Fates(), Naive(), Walker(seed)
-            for _ in range(STEPS):
-                numbers = naive.running() * 3 + list(range(len(naive.states) + 2))[-3:]
-                words = LOUD if walker.pick(range(5)) == 0 else CALM
-                word = "crash" if walker.pick(range(60)) == 0 else walker.pick(words)
-                step = (word,) if word in ("begin", "crash") else (word, walker.pick(numbers))
-                self.step(fates, naive, step)
+            self.walk(Fates(), Walker(seed))
+
+    def test_long_histories_of_a_lock_list(self):
+        for seed in range(WALKS):
+            self.walk(LockList(["x"]), Walker(seed))
 
 
 if __name__ == "__main__":

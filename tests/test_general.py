@@ -3,7 +3,9 @@
 import unittest
 
 from rowmarks.fates import Fates
-from pictures import picture
+from rowmarks.locklists import LockList
+from rowmarks.sets import SetBook
+from pictures import list_picture, picture
 
 GROWN = ([], [7], ["x", None])
 
@@ -59,6 +61,41 @@ class NewLists(unittest.TestCase):
         fates.commit(2)
         fates.parts(2).append(9)
         self.assertEqual(fates.parts(2), [])
+
+    def test_lists_of_a_lock_list(self):
+        locked = LockList(["x", "y"])
+        for number in (1, 2, 3):
+            locked.begin()
+            locked.lock(number, "x", "hold")
+        locked.save(1)
+        locked.lock(1, "x", "hold")
+        before = list_picture(locked)
+        asks = (
+            locked.entries,
+            lambda: locked.blockers("x", "replace"),
+            lambda: locked.blockers("x", "hold", asker=2),
+            locked.running,
+            lambda: locked.parts(1),
+        )
+        for ask in asks:
+            self.check(locked, ask)
+            told = ask()
+            told[:] = [(1, "y", "locks", "replace")]
+            self.assertEqual(list_picture(locked), before)
+
+    def test_told_entries_do_not_follow_the_object(self):
+        locked = LockList(["x"])
+        locked.begin()
+        locked.lock(1, "x", "hold")
+        told = locked.entries()
+        locked.lock(1, "x", "keep")
+        self.assertEqual(told, [(1, "x", "locks", "hold")])
+
+    def test_cleared_numbers_of_sets(self):
+        book = SetBook()
+        book.write([])
+        book.taken().clear()
+        self.assertEqual((book.taken(), book.write([]), len(book)), ([1], 2, 2))
 
 
 class SideBySide(unittest.TestCase):

@@ -42,6 +42,54 @@ CLASSES = {
             "ended_at": ["self", "part"],
         },
     },
+    "sets": {
+        "SetBook": {
+            "__init__": ["self"],
+            "write": ["self", "members"],
+            "put": ["self", "number", "members"],
+            "__getitem__": ["self", "number"],
+            "forget": ["self", "number"],
+            "__contains__": ["self", "number"],
+            "__len__": ["self"],
+            "taken": ["self"],
+            "fitting": ["self", "need", "fates"],
+        },
+    },
+    "locklists": {
+        "LockList": {
+            "__init__": ["self", "names"],
+            "names": None,
+            "lock": ["self", "number", "name", "mode"],
+            "change": ["self", "number", "name", "mode"],
+            "entries": ["self"],
+            "is_idle": ["self", "entry"],
+            "covers": ["self", "entry"],
+            "profile": ["self", "number", "name"],
+            "blockers": ["self", "name", "mode", "asker"],
+        },
+    },
+    "rows": {
+        "Row": {
+            "__init__": ["self", "value"],
+            "make": ["self", "value", "part", "mode"],
+            "standing": ["self", "fates"],
+            "base": ["self", "fates"],
+            "newest": ["self", "fates"],
+            "changer": ["self", "fates"],
+            "kept": ["self"],
+            "__getitem__": ["self", "number"],
+            "mark": ["self", "number"],
+            "set_mark": ["self", "number", "mark"],
+            "remove": ["self", "number"],
+        },
+    },
+}
+FUNCTIONS = {
+    "members": {
+        "is_member": ["value"],
+        "canonical": ["members", "fates"],
+        "fits": ["members", "need", "fates"],
+    },
 }
 
 
@@ -61,6 +109,24 @@ class Interface(unittest.TestCase):
                     with self.subTest(f"{name}.{word}"):
                         self.assertIn(word, body)
                         self.check(body[word], arguments)
+
+    def test_functions_stand_in_their_files(self):
+        for file, functions in FUNCTIONS.items():
+            module = importlib.import_module(f"rowmarks.{file}")
+            for name, arguments in functions.items():
+                with self.subTest(f"{file}.{name}"):
+                    found = getattr(module, name)
+                    self.assertEqual(found.__module__, f"rowmarks.{file}")
+                    self.check(found, arguments)
+
+    def test_a_lock_list_derives_from_fates(self):
+        bases = importlib.import_module("rowmarks.locklists").LockList.__bases__
+        self.assertEqual(bases, (importlib.import_module("rowmarks.fates").Fates,))
+
+    def test_the_asker_is_none_and_by_name_unless_told(self):
+        blockers = importlib.import_module("rowmarks.locklists").LockList.blockers
+        asker = inspect.signature(blockers).parameters["asker"]
+        self.assertEqual((asker.default, asker.kind), (None, inspect.Parameter.KEYWORD_ONLY))
 
     def check(self, found, arguments):
         if arguments is None:

@@ -42,6 +42,9 @@ BARRED_WORDS = re.compile(
     r"\b(type|typing|typing_extensions|enum|Enum|IntEnum|StrEnum|Flag|IntFlag|Generic|Protocol|ABC|ABCMeta"
     r"|namedtuple|NamedTuple|TypedDict|TYPE_CHECKING|abstractmethod)\b|dataclass|overload|contextmanager|_wall|_WallAttr"
 )
+BARRED_STARTS = ("_wall", "_pe_", "_dcw_", "_enum_", "_cm_", "_twin_re_", "_lay_", "_law_", "_stub_", "_sre", "_WallAttr")
+BARRED_OWN = re.compile(r"^_(cold|tuplegetter|outside|record|written_out|member_names)[0-9_]*$")
+ITERATED = ("any", "all", "min", "max", "sum", "sorted")
 BARRED_NODES = (
     ast.Global, ast.AsyncFunctionDef, ast.AsyncFor, ast.AsyncWith, ast.Await, ast.Div, ast.MatMult, ast.Import,
     ast.TryStar,
@@ -173,6 +176,7 @@ class Language(unittest.TestCase):
                 with self.subTest(file=name, line=line, word=word):
                     self.assertTrue(word in DUNDERS or not dunder.match(word))
                     self.assertNotIn(word, BARRED_NAMES)
+                    self.assertFalse(word.startswith(BARRED_STARTS) or BARRED_OWN.match(word))
             stored = [node.id for node in ast.walk(tree) if isinstance(node, ast.Name) and isinstance(node.ctx, ast.Store)]
             parameters = [node.arg for node in ast.walk(tree) if isinstance(node, ast.arg)]
             self.none(word for word in stored + parameters if word in vars(builtins))
@@ -192,6 +196,44 @@ class Language(unittest.TestCase):
                 if isinstance(node, ast.Call) and isinstance(node.func, ast.Attribute)
                 if node.func.attr not in own | METHODS
             )
+
+    def test_classes_with_items_say_how_they_are_iterated_over(self):
+        for name, _, tree in self.each():
+            for node in ast.walk(tree):
+                if isinstance(node, ast.ClassDef):
+                    methods = [inner.name for inner in node.body if isinstance(inner, ast.FunctionDef)]
+                    self.assertEqual(len(methods), len(set(methods)), f"{name}: {node.name}")
+                    self.assertTrue("__iter__" in methods or "__getitem__" not in methods, f"{name}: {node.name}")
+
+    def test_calls_beside_classes_that_compare(self):
+        # The package has classes with __eq__ and __getitem__, which bar some calls (L5, L7, L25).
+        for name, _, tree in self.each():
+            for node in ast.walk(tree):
+                if not isinstance(node, ast.Call):
+                    continue
+                place = f"{name}: {node.lineno}"
+                if isinstance(node.func, ast.Name) and node.func.id in ITERATED:
+                    self.none(place for given in node.args if isinstance(given, ast.GeneratorExp))
+                self.assertNotEqual(getattr(node.func, "attr", None), "sort", place)
+
+    def test_sets_stand_only_where_they_may(self):
+        # Stricter than L24: sets are written only inside of len and sorted, and none is stored.
+        for name, _, tree in self.each():
+            inside = [
+                given
+                for node in ast.walk(tree)
+                if isinstance(node, ast.Call) and getattr(node.func, "id", None) in ("len", "sorted") and not node.keywords
+                for given in node.args
+            ]
+            for node in ast.walk(tree):
+                if isinstance(node, ast.SetComp) or (isinstance(node, ast.Call) and getattr(node.func, "id", None) == "set"):
+                    self.assertIn(node, inside, f"{name}: {node.lineno}")
+
+    def test_is_only_beside_constants(self):
+        for name, _, tree in self.each():
+            for node in ast.walk(tree):
+                if isinstance(node, ast.Compare) and any(isinstance(sign, (ast.Is, ast.IsNot)) for sign in node.ops):
+                    self.none((name, node.lineno) for other in node.comparators if not isinstance(other, ast.Constant))
 
     def test_decorators(self):
         for name, _, tree in self.each():
