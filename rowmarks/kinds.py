@@ -21,6 +21,11 @@ def is_name(value):
     return value.isascii() and value.isalpha() and value.islower()
 
 
+def is_value(value):
+    """Whether a value is an integer that a row can have."""
+    return is_whole(value) and abs(value) < 10 ** 30
+
+
 def are_names(values):
     """Whether a list or tuple holds the names of the rows of one store."""
     if not 1 <= len(values) <= MOST_ROWS or not all([is_name(value) for value in values]):

@@ -32,6 +32,14 @@ class SetBook:
         """The numbers that sets have, ascending."""
         return sorted(self._sets)
 
+    def members(self, mark):
+        """The members of a mark; one with the number of no set has none."""
+        if mark is None:
+            return ()
+        if isinstance(mark, tuple):
+            return (mark,)
+        return self._sets.get(mark, ())
+
     def fitting(self, need, fates):
         """The least number of a set that fits the need, None if none does."""
         for number in self.taken():

@@ -75,3 +75,49 @@ def row_picture(row, fates):
         row.newest(fates),
         row.changer(fates),
     )
+
+
+def row_pictures(store):
+    """All that a Store tells of its rows."""
+    return {
+        name: (
+            {version: (*store.version(name, version), store.mark(name, version)) for version in store.versions(name)},
+            store.base(name),
+            store.newest(name),
+            store.changer(name),
+            {version: store.need(name, version) for version in current(store, name)},
+        )
+        for name in store.names
+    }
+
+
+def current(store, name):
+    """The standing versions of a row from the base on, by what the interface tells."""
+    base = store.base(name)
+    makers = {version: store.version(name, version)[1] for version in store.versions(name) if version >= base}
+    return [version for version, maker in makers.items() if maker is None or store.fate(maker) != "rolled back"]
+
+
+def store_picture(store):
+    """All that a Store tells, without what is answered to requests."""
+    return (
+        picture(store),
+        row_pictures(store),
+        store.sets(),
+        store.writes(),
+        store.written(),
+        store.horizon,
+        {moment: store.at(moment) for moment in range(store.horizon, store.moment() + 1)},
+    )
+
+
+def answers(some):
+    """What a LockList or a Store says of profiles and blockers."""
+    numbers = range(1, len(transactions(some)) + 1)
+    return [
+        (
+            [some.profile(number, name) for number in numbers],
+            [[some.blockers(name, mode, asker=asker) for asker in [None, *numbers]] for mode in ("hold", "keep", "change", "replace")],
+        )
+        for name in some.names
+    ]

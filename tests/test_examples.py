@@ -41,6 +41,39 @@ LOCK_LIST = """
     [[1], None, [], [1]]
 """
 
+STORE = """
+    >>> from rowmarks.stores import Store
+    >>> store = Store({"x": 5})
+    >>> told = [store.begin(), store.begin(), store.lock(1, "x", "hold"), store.save(2), store.change(2, "x", "change", 7)]
+    >>> [store.sets(), store.mark("x", 0), store.mark("x", 1), store.writes()[1:]]
+    [{1: ((1, 'locks', 'hold'), (3, 'changes', 'change'))}, 1, (1, 'locks', 'hold'), (('mark', 'x', 0, 1), ('mark', 'x', 1, (1, 'locks', 'hold')))]
+    >>> told = [store.commit(1), store.lock(2, "x", "replace"), store.profile(2, "x"), store.mark("x", 1)]
+    >>> told
+    [None, None, (None, 'replace'), (3, 'locks', 'replace')]
+    >>> told = [store.back(2), store.profile(2, "x"), store.writes(), store.need("x", 0), store.mark("x", 0)]
+    >>> told
+    [None, (None,), (), (), 1]
+    >>> [store.clean(), store.mark("x", 0), store.sets(), store.at(0), store.at(1)]
+    [None, None, {}, {'x': 5}, {'x': 5}]
+"""
+
+HANDLES = """
+    >>> from rowmarks.handles import Transaction
+    >>> from rowmarks.stores import Store
+    >>> store = Store({"x": 5, "y": 0})
+    >>> first, second = Transaction(store, store.begin()), Transaction(store, store.begin())
+    >>> told = [second.lock("y"), first.attempt([("change", "x", "change", 6), ("lock", "y", "keep")])]
+    >>> [first["x"], second["x"], "z" in first, store.parts(1), store.profile(1, "y"), store.operations]
+    [6, 5, False, [1], ('keep',), 7]
+"""
+
+PAPERS = """
+    >>> from rowmarks.papers import papers
+    >>> some = (("begin",), ("lock", 1, "x", "keep"), ("lock", 1, "x", "hold"), ("save", 1), ("lock", 1, "x", "change"), ("release", 1))
+    >>> papers({"x": 0}, some)
+    [('covered', 0, (1, 'locks', 'change')), ('idle', 0), ('shown', 0, (2, 'locks', 'change'), (6,))]
+"""
+
 
 class Examples(unittest.TestCase):
     def check(self, name, text):
@@ -61,6 +94,13 @@ class Examples(unittest.TestCase):
 
     def test_stage_4(self):
         self.check("lock list", LOCK_LIST)
+
+    def test_stage_6(self):
+        self.check("store", STORE)
+        self.check("handles", HANDLES)
+
+    def test_stage_7(self):
+        self.check("papers", PAPERS)
 
 
 if __name__ == "__main__":

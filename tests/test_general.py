@@ -4,8 +4,10 @@ import unittest
 
 from rowmarks.fates import Fates
 from rowmarks.locklists import LockList
+from rowmarks.papers import papers, readings
 from rowmarks.sets import SetBook
-from pictures import list_picture, picture
+from rowmarks.stores import Store
+from pictures import answers, list_picture, picture, store_picture
 
 GROWN = ([], [7], ["x", None])
 
@@ -96,6 +98,72 @@ class NewLists(unittest.TestCase):
         book.write([])
         book.taken().clear()
         self.assertEqual((book.taken(), book.write([]), len(book)), ([1], 2, 2))
+
+
+class NewFromStores(unittest.TestCase):
+    def scene(self):
+        store = Store({"x": 1, "y": 2})
+        for _ in range(3):
+            store.begin()
+        for number in (1, 2):
+            store.lock(number, "x", "hold")
+        store.change(3, "x", "change", 5)
+        return store
+
+    def test_lists_and_dicts_that_were_returned(self):
+        store = self.scene()
+        before = store_picture(store), answers(store)
+        for ask in (
+            store.sets, store.running, lambda: store.at(0), lambda: store.versions("x"), lambda: store.parts(1),
+            lambda: store.blockers("x", "replace"),
+        ):
+            told, kept = ask(), ask()
+            self.assertEqual(told, kept)
+            self.assertIsNot(told, kept)
+            told.clear()
+            self.assertEqual((store_picture(store), answers(store)), before)
+
+    def test_told_values_do_not_follow_the_object(self):
+        store = self.scene()
+        sets, values, versions, writes = store.sets(), store.at(0), store.versions("x"), store.writes()
+        store.commit(3)
+        store.clean()
+        self.assertEqual((sorted(sets), values, versions), ([1, 2], {"x": 1, "y": 2}, [0, 1]))
+        self.assertEqual((len(writes), store.writes()), (3, ()))
+        self.assertEqual(sorted(store.sets()), [1])
+
+    def test_kinds_of_what_is_told(self):
+        store = self.scene()
+        kinds = (
+            (tuple, [store.names, store.profile(1, "x"), store.need("x", 0), store.writes(), store.version("x", 0)]),
+            (tuple, list(store.sets().values()) + list(store.writes())),
+            (list, [store.versions("x"), store.blockers("x", "hold")]),
+            (dict, [store.sets(), store.at(0)]),
+        )
+        for kind, told in kinds:
+            for value in told:
+                self.assertIs(value.__class__, kind)
+        self.assertEqual(list(store.sets()), sorted(store.sets()))
+
+    def test_stores_side_by_side(self):
+        one, other = self.scene(), self.scene()
+        self.assertEqual(store_picture(one), store_picture(other))
+        before = store_picture(other), answers(other)
+        one.commit(3)
+        one.clean()
+        one.save(1)
+        self.assertEqual((store_picture(other), answers(other)), before)
+        full = store_picture(one), answers(one)
+        other.crash()
+        other.clean()
+        self.assertEqual((store_picture(one), answers(one)), full)
+
+    def test_papers_are_new_each_time(self):
+        history = (("begin",), ("lock", 1, "x", "hold"))
+        for ask in (lambda: papers({"x": 0}, history), lambda: readings(name="x", history=history, values={"x": 0})):
+            told = ask()
+            told.clear()
+            self.assertEqual(len(ask()), 1)
 
 
 class SideBySide(unittest.TestCase):

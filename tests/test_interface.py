@@ -83,12 +83,65 @@ CLASSES = {
             "remove": ["self", "number"],
         },
     },
+    "stores": {
+        "Store": {
+            "__init__": ["self", "values"],
+            "lock": ["self", "number", "name", "mode"],
+            "change": ["self", "number", "name", "mode", "value"],
+            "profile": ["self", "number", "name"],
+            "blockers": ["self", "name", "mode", "asker"],
+            "read": ["self", "number", "name"],
+            "names": None,
+            "versions": ["self", "name"],
+            "version": ["self", "name", "version"],
+            "mark": ["self", "name", "version"],
+            "need": ["self", "name", "version"],
+            "base": ["self", "name"],
+            "newest": ["self", "name"],
+            "changer": ["self", "name"],
+            "sets": ["self"],
+            "writes": ["self"],
+            "written": ["self"],
+            "horizon": None,
+            "move_horizon": ["self", "moment"],
+            "at": ["self", "moment"],
+            "clean": ["self"],
+        },
+    },
+    "handles": {
+        "Transaction": {
+            "__init__": ["self", "store", "number"],
+            "__getitem__": ["self", "name"],
+            "__setitem__": ["self", "name", "value"],
+            "__contains__": ["self", "name"],
+            "lock": ["self", "name", "mode"],
+            "change": ["self", "name", "value", "mode"],
+            "save": ["self"],
+            "release": ["self"],
+            "back": ["self"],
+            "prepare": ["self"],
+            "commit": ["self"],
+            "abort": ["self"],
+            "profile": ["self", "name"],
+            "attempt": ["self", "requests"],
+        },
+    },
 }
 FUNCTIONS = {
     "members": {
         "is_member": ["value"],
         "canonical": ["members", "fates"],
         "fits": ["members", "need", "fates"],
+    },
+    "histories": {
+        "is_operation": ["value"],
+        "first_refused": ["values", "history"],
+        "run": ["values", "history"],
+        "listed": ["values", "history"],
+    },
+    "papers": {
+        "papers": ["values", "history"],
+        "readings": ["values", "history", "name"],
     },
 }
 
@@ -119,14 +172,21 @@ class Interface(unittest.TestCase):
                     self.assertEqual(found.__module__, f"rowmarks.{file}")
                     self.check(found, arguments)
 
-    def test_a_lock_list_derives_from_fates(self):
-        bases = importlib.import_module("rowmarks.locklists").LockList.__bases__
-        self.assertEqual(bases, (importlib.import_module("rowmarks.fates").Fates,))
+    def test_lock_lists_and_stores_derive_from_fates(self):
+        fates = importlib.import_module("rowmarks.fates").Fates
+        self.assertTrue(issubclass(importlib.import_module("rowmarks.locklists").LockList, fates))
+        self.assertTrue(issubclass(importlib.import_module("rowmarks.stores").Store, fates))
 
-    def test_the_asker_is_none_and_by_name_unless_told(self):
-        blockers = importlib.import_module("rowmarks.locklists").LockList.blockers
-        asker = inspect.signature(blockers).parameters["asker"]
-        self.assertEqual((asker.default, asker.kind), (None, inspect.Parameter.KEYWORD_ONLY))
+    def test_what_is_passed_by_name_only(self):
+        store = importlib.import_module("rowmarks.stores").Store
+        handle = importlib.import_module("rowmarks.handles").Transaction
+        some = importlib.import_module("rowmarks.locklists").LockList
+        for found, name, default in (
+            (some.blockers, "asker", None), (store.blockers, "asker", None),
+            (handle.lock, "mode", "hold"), (handle.change, "mode", "change"),
+        ):
+            parameter = inspect.signature(found).parameters[name]
+            self.assertEqual((parameter.default, parameter.kind), (default, inspect.Parameter.KEYWORD_ONLY))
 
     def check(self, found, arguments):
         if arguments is None:

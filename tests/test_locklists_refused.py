@@ -4,19 +4,10 @@ import unittest
 
 from rowmarks import errors
 from rowmarks.locklists import LockList
-from oddities import NO_NUMBERS, Stranger, twin
+from oddities import NEAR_NAMES, NO_MODES, NO_NUMBERS, NO_ROWS, NOT_NAMES, UNKNOWN, Stranger, twin
 from pictures import list_picture
 
 LETTERS = "abcdefghijklmnopqrstuvwxyz"
-NEAR_NAMES = (
-    "", "abcdefg", "X", "aB", "x1", "1", "x y", "x ", " x", "x\n", "\n", "x_", "_", "-", "x-y", "x.y", "abcdeF", "abcdefgh",
-    "\u00e9", "a\u00df", "\u03b1",
-)
-ODD = tuple(value for value in NO_NUMBERS if value != "one")
-NOT_NAMES = NEAR_NAMES + ODD + (1, 5, ["x"], ("x",), {"x": 1})
-NO_ROWS = NOT_NAMES + ("one", "z", "xx", "abcdef")
-NO_MODES = ("Hold", "hold ", "holds", "locks", "changes", "x", "") + NO_NUMBERS + (1, 3, ["hold"], ("change",), {"keep": 2})
-UNKNOWN = NO_NUMBERS + (8, 9, 100)
 
 
 def scene():
