@@ -111,6 +111,14 @@ class Fates:
         self._check_known(number)
         return list(self._stacks[number - 1])
 
+    def is_transaction(self, number):
+        """Whether a value is the number of a transaction."""
+        return is_within(number, 1, len(self._states))
+
+    def is_part(self, part):
+        """Whether a value is the number of a part."""
+        return is_within(part, 1, len(self._all_parts))
+
     def root(self, part):
         """The end of the joins of a part."""
         self._check_part(part)
@@ -150,7 +158,7 @@ class Fates:
         self._done += 1
 
     def _check_known(self, number):
-        if not is_within(number, 1, len(self._states)):
+        if not self.is_transaction(number):
             raise UnknownTransaction(number)
 
     def _check_running(self, number):
@@ -164,7 +172,7 @@ class Fates:
             raise Prepared(number)
 
     def _check_part(self, part):
-        if not is_within(part, 1, len(self._all_parts)):
+        if not self.is_part(part):
             raise UnknownPart(part)
 
     def _open_part(self, number, outer):

@@ -26,11 +26,26 @@ def next_operation(naive, walker, names=("x", "y")):
     return "change", walker.pick(numbers), name, walker.pick(("change", "change", "replace")), walker.pick(range(-9, 10))
 
 
-def drawn_history(values, seed, many):
-    """A history of so many operations."""
+def next_holding(naive, walker, names=("x", "y")):
+    """An operation of a few long transactions that hold rows, with savepoints and cleanings."""
+    if len(naive.running()) < 3:
+        return ("begin",)
+    number, kind = walker.pick(naive.running()), walker.pick(range(12))
+    if kind < 1:
+        return ("clean",)
+    if kind < 3:
+        return walker.pick(("save", "back", "save", "back", "release", "abort")), number
+    return "lock", number, walker.pick(names), "hold"
+
+
+def drawn_history(values, seed, many, start=(), choose=next_operation):
+    """A history of so many operations, perhaps with some at its start."""
     naive, walker, found = NaiveStore(values), Walker(seed), []
+    for operation in start:
+        naive.perform(operation)
+        found.append(operation)
     while len(found) < many:
-        operation = next_operation(naive, walker, naive.names)
+        operation = choose(naive, walker, naive.names)
         if naive.full_refusal(operation) is None:
             naive.perform(operation)
             found.append(operation)

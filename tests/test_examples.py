@@ -74,6 +74,42 @@ PAPERS = """
     [('covered', 0, (1, 'locks', 'change')), ('idle', 0), ('shown', 0, (2, 'locks', 'change'), (6,))]
 """
 
+MARKINGS = """
+    >>> from rowmarks.markings import fewest_sets, first_misfit, reasons
+    >>> some = (("begin",), ("begin",), ("lock", 1, "x", "hold"), ("lock", 2, "x", "hold"), ("lock", 2, "y", "hold"), ("lock", 1, "y", "hold"))
+    >>> [fewest_sets({"x": 0, "y": 0}, some), reasons({"x": 0, "y": 0}, some)]
+    [[0, 0, 0, 1, 1, 1], [[]]]
+    >>> first_misfit({"x": 0, "y": 0}, some, ((), (), (("mark", "x", 0, (1, "locks", "hold")),), (), (), ()))
+    ('misfit', 4, 'x', 0, 'need', (2, 'locks', 'hold'))
+"""
+
+TELLING = """
+    >>> from rowmarks.telling import first_untold
+    >>> some = (("begin",), ("begin",), ("lock", 1, "x", "hold"), ("change", 2, "x", "change", 7))
+    >>> first = ((), (), (("mark", "x", 0, (1, "locks", "hold")),))
+    >>> first_untold({"x": 0}, some, first + ((("mark", "x", 1, (1, "locks", "hold")),),))[:4]
+    ('untold', 4, 2, 'x')
+    >>> second = ((("mark", "x", 0, (2, "changes", "change")), ("mark", "x", 1, (1, "locks", "hold"))),)
+    >>> first_untold({"x": 0}, some, first + second)[:4]
+    ('untold', 4, 1, 'x')
+"""
+
+RULES = """
+    >>> from rowmarks.rules import Rules, told
+    >>> some = Rules(reads="base", carries="none", marks="each", harder="beside", drops="ended", cleans="all", numbers="unnamed")
+    >>> history = (("begin",), ("begin",), ("lock", 1, "x", "hold"), ("change", 2, "x", "change", 7), ("commit", 2))
+    >>> [told(some, {"x": 0}, history[:-1], "x", "replace"), told(some, {"x": 0}, history, "x", "replace")]
+    [[1, 2], []]
+"""
+
+TEXTS = r"""
+    >>> from rowmarks.texts import history_text, read_marking
+    >>> history_text((("begin",), ("change", 1, "x", "replace", -5)))
+    'begin\nchange 1 x replace -5'
+    >>> read_marking("at 1\nat 2\nset 3, 1 locks hold\nmark x 0 set 3")
+    ((), (('set', 3, ((1, 'locks', 'hold'),)), ('mark', 'x', 0, 3)))
+"""
+
 
 class Examples(unittest.TestCase):
     def check(self, name, text):
@@ -101,6 +137,18 @@ class Examples(unittest.TestCase):
 
     def test_stage_7(self):
         self.check("papers", PAPERS)
+
+    def test_stage_8(self):
+        self.check("markings", MARKINGS)
+
+    def test_stage_9(self):
+        self.check("telling", TELLING)
+
+    def test_stage_10(self):
+        self.check("rules", RULES)
+
+    def test_stage_11(self):
+        self.check("texts", TEXTS)
 
 
 if __name__ == "__main__":

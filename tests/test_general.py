@@ -4,9 +4,13 @@ import unittest
 
 from rowmarks.fates import Fates
 from rowmarks.locklists import LockList
+from rowmarks.markings import fewest_sets, first_misfit, fits_history, marking, reasons, written
 from rowmarks.papers import papers, readings
+from rowmarks.rules import every_table, told, told_by, wrong_history
 from rowmarks.sets import SetBook
 from rowmarks.stores import Store
+from rowmarks.telling import first_untold, tells_history, told_profile
+from rowmarks.texts import read_rules
 from pictures import answers, list_picture, picture, store_picture
 
 GROWN = ([], [7], ["x", None])
@@ -164,6 +168,58 @@ class NewFromStores(unittest.TestCase):
             told = ask()
             told.clear()
             self.assertEqual(len(ask()), 1)
+
+
+class NewFromFunctions(unittest.TestCase):
+    VALUES = {"x": 0, "y": 0}
+    HISTORY = (
+        ("begin",), ("begin",), ("lock", 1, "x", "hold"), ("lock", 2, "x", "hold"), ("save", 1), ("lock", 1, "y", "keep"),
+        ("begin",), ("lock", 3, "x", "hold"), ("clean",),
+    )
+
+    def asks(self):
+        rules = read_rules("base all each beside ended all unnamed")
+        return (
+            lambda: papers(self.VALUES, self.HISTORY),
+            lambda: readings(self.VALUES, self.HISTORY, "x"),
+            lambda: written(self.VALUES, self.HISTORY),
+            lambda: fewest_sets(self.VALUES, self.HISTORY),
+            lambda: reasons(self.VALUES, self.HISTORY),
+            lambda: reasons(self.VALUES, self.HISTORY)[1],
+            lambda: told(rules, self.VALUES, self.HISTORY, "x", "replace"),
+            lambda: told_by(rules, self.VALUES, self.HISTORY, "x")[0],
+            lambda: told_by(rules, self.VALUES, self.HISTORY, "x")[1],
+        )
+
+    def test_lists_that_were_returned_are_changed(self):
+        for ask in self.asks():
+            kept, given = ask(), ask()
+            self.assertGreater(len(given), 0)
+            self.assertIs(given.__class__, list)
+            given.clear()
+            self.assertEqual(ask(), kept)
+
+    def test_what_was_asked_before_does_not_matter(self):
+        asks = self.asks()
+        first = [ask() for ask in asks]
+        self.assertEqual([ask() for ask in reversed(asks)], first[::-1])
+        wrong = [wrong_history(rules) for rules in every_table()]
+        self.assertEqual([wrong_history(rules) for rules in every_table()], wrong)
+        self.assertEqual([ask() for ask in asks], first)
+
+    def test_what_is_handed_in_stays(self):
+        value = marking(self.VALUES, self.HISTORY)
+        for call in (first_misfit, fits_history, first_untold, tells_history):
+            self.assertIn(call(value=value, history=self.HISTORY, values=self.VALUES), (None, True))
+        self.assertEqual(told_profile(name="y", number=1, value=value, history=self.HISTORY, values=self.VALUES), (None, "keep"))
+        self.assertEqual((list(self.VALUES.items()), value), ([("x", 0), ("y", 0)], marking(self.VALUES, self.HISTORY)))
+
+    def test_two_tables_asked_by_turns(self):
+        one, other = read_rules("base none base beside ended all unnamed"), read_rules("base all each beside ended all unnamed")
+        history = (("begin",), ("begin",), ("lock", 1, "x", "hold"), ("change", 2, "x", "change", 5), ("commit", 2))
+        for _ in range(2):
+            self.assertEqual(told(name="x", mode="replace", history=history, values=self.VALUES, rules=one), [])
+            self.assertEqual(told(other, self.VALUES, history, "x", "replace"), [1])
 
 
 class SideBySide(unittest.TestCase):

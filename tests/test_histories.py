@@ -6,6 +6,7 @@ from rowmarks.errors import Impossible
 from rowmarks.fates import Fates
 from rowmarks.histories import first_refused, is_operation, listed, run
 from rowmarks.locklists import LockList
+from rowmarks.markings import marking
 from rowmarks.papers import papers, readings
 from rowmarks.stores import Store
 from drawn import drawn_history
@@ -137,7 +138,7 @@ class Refused(unittest.TestCase):
         self.assertEqual(first_refused(VALUES, sixty[:-1] + (("save", 9), ("clean",))), 60)
 
     def test_impossible(self):
-        calls = (run, listed, papers, lambda values, history: readings(values, history, "q"))
+        calls = (run, listed, papers, lambda values, history: readings(values, history, "q"), marking)
         for history, number in (
             ([], 0), ("", 0), (None, 0), ((None,), 1), ((("begin",), ("save", 2)), 2), ((("clean",),) * 61, 61)
         ):

@@ -1,4 +1,4 @@
-"""Names, arguments and places of the interface, for the stages that have landed."""
+"""Names, arguments and places of the interface."""
 
 import importlib
 import inspect
@@ -126,6 +126,13 @@ CLASSES = {
             "attempt": ["self", "requests"],
         },
     },
+    "rules": {
+        "Rules": {
+            "__init__": ["self", "reads", "carries", "marks", "harder", "drops", "cleans", "numbers"],
+            "words": None,
+            "__eq__": ["self", "other"],
+        },
+    },
 }
 FUNCTIONS = {
     "members": {
@@ -142,6 +149,34 @@ FUNCTIONS = {
     "papers": {
         "papers": ["values", "history"],
         "readings": ["values", "history", "name"],
+    },
+    "markings": {
+        "marking": ["values", "history"],
+        "written": ["values", "history"],
+        "fewest_sets": ["values", "history"],
+        "reasons": ["values", "history"],
+        "first_misfit": ["values", "history", "value"],
+        "fits_history": ["values", "history", "value"],
+    },
+    "telling": {
+        "told_profile": ["values", "history", "value", "number", "name"],
+        "first_untold": ["values", "history", "value"],
+        "tells_history": ["values", "history", "value"],
+    },
+    "rules": {
+        "every_table": [],
+        "is_right": ["rules"],
+        "told": ["rules", "values", "history", "name", "mode", "asker"],
+        "wrong_history": ["rules"],
+        "told_by": ["rules", "values", "history", "name"],
+    },
+    "texts": {
+        "history_text": ["history"],
+        "marking_text": ["marking"],
+        "rules_text": ["rules"],
+        "read_history": ["text"],
+        "read_marking": ["text"],
+        "read_rules": ["text"],
     },
 }
 
@@ -184,9 +219,13 @@ class Interface(unittest.TestCase):
         for found, name, default in (
             (some.blockers, "asker", None), (store.blockers, "asker", None),
             (handle.lock, "mode", "hold"), (handle.change, "mode", "change"),
+            (importlib.import_module("rowmarks.rules").told, "asker", None),
         ):
             parameter = inspect.signature(found).parameters[name]
             self.assertEqual((parameter.default, parameter.kind), (default, inspect.Parameter.KEYWORD_ONLY))
+
+    def test_tables_are_generated(self):
+        self.assertTrue(inspect.isgeneratorfunction(importlib.import_module("rowmarks.rules").every_table))
 
     def check(self, found, arguments):
         if arguments is None:
