@@ -33,7 +33,7 @@ class Marked:
     def __init__(self, values):
         self.store = Store(values)
         self._book = SetBook()
-        self._marks = {name: {0: None} for name in self.store.names}
+        self._marks = {name: {} for name in self.store.names}
 
     def step(self, operation, writes):
         """Does an operation and its writes; returns the place of the first that is none, else None."""

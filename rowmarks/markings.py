@@ -59,8 +59,9 @@ def is_needless(members, store):
 
 def reason(members, lost, later, store):
     """Why a set with some members does not serve for one that is written later."""
-    first, second = canonical(members, store), canonical(later, store)
-    only = sorted([member for member in first + second if member not in first or member not in second])
+    # A set is written as the need that it is, so the later one reads as itself.
+    told = canonical(members, store)
+    only = sorted([member for member in told + later if member not in told or member not in later])
     return ("differs", only[0]) if len(only) > 0 else ("forgotten", lost)
 
 

@@ -1,6 +1,5 @@
 """Papers: what shows, for each lock and change, where it is told or why it is not."""
 
-from rowmarks.errors import BadName
 from rowmarks.histories import listed, run
 from rowmarks.members import CHANGED, canonical
 from rowmarks.modes import rank_of
@@ -15,8 +14,6 @@ def papers(values, history):
 def readings(values, history, name):
     """What the marks of a row tell behind a history, each with an entry that it stands for."""
     store, some = run(values, history), listed(values, history)
-    if name not in store.names:
-        raise BadName(name)
     return [
         (version, member, entry_of(member, name, some))
         for version in store.current(name)

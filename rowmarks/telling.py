@@ -1,6 +1,6 @@
 """Whether a marking tells who holds what, whatever ends come next."""
 
-from rowmarks.errors import BadName, UnknownTransaction
+from rowmarks.errors import UnknownTransaction
 from rowmarks.histories import check_history
 from rowmarks.holders import profile_of
 from rowmarks.marked import Marked, has_form
@@ -14,9 +14,8 @@ def told_profile(values, history, value, number, name):
         marked.step(operation, writes)
     if not marked.store.is_transaction(number):
         raise UnknownTransaction(number)
-    if name not in marked.store.names:
-        raise BadName(name)
-    return profile_of(number, marked.held(name, marked.store.current(name)), marked.store)
+    versions = marked.store.current(name)
+    return profile_of(number, marked.held(name, versions), marked.store)
 
 
 def first_untold(values, history, value):

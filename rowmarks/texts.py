@@ -60,7 +60,7 @@ def read_rules(text):
     if not isinstance(text, str):
         raise BadText(1)
     line, *more = text.split("\n")
-    words = tuple(line.split(" "))
+    words = line.split(" ")
     if len(words) != len(FIELDS) or not are_rules(words):
         raise BadText(1)
     if len(more) > 0:

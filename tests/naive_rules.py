@@ -145,6 +145,10 @@ class NaiveRuled:
                 found.append((version, (row["maker"], "made", row["mode"])))
         return found
 
+    def kept(self):
+        """All marks and all sets, as they are kept."""
+        return {name: {version: row["mark"] for version, row in rows.items()} for name, rows in self.versions.items()}, self.sets
+
     def told(self, name, mode, asker):
         found = {self.holder(thing[0]) for _, thing in self.read(name) if (thing[2], mode) in CLASHES}
         return sorted(found - {asker})

@@ -78,6 +78,8 @@ class Operations(unittest.TestCase):
         for number in NO_TRANSACTIONS:
             self.bad(("change", number, "x", "change", 5))
         self.bad(("change", 1, "x", "change"))
+        self.bad(("changes", 1, "x", "change", 5))
+        self.bad(("locks", 1, "x", "hold"))
 
     def test_horizons(self):
         for moment in (0, 1, 59, 60):

@@ -181,6 +181,24 @@ class Language(unittest.TestCase):
             parameters = [node.arg for node in ast.walk(tree) if isinstance(node, ast.arg)]
             self.none(word for word in stored + parameters if word in vars(builtins))
 
+    def test_locals_do_not_hide_imports_and_classes(self):
+        for name, _, tree in self.each():
+            outer = [alias.asname or alias.name for node in tree.body if isinstance(node, ast.ImportFrom) for alias in node.names]
+            outer += [node.name for node in tree.body if isinstance(node, (ast.ClassDef, ast.FunctionDef))]
+            for function in ast.walk(tree):
+                if isinstance(function, ast.FunctionDef):
+                    inner = [node.arg for node in ast.walk(function) if isinstance(node, ast.arg)]
+                    inner += [node.id for node in ast.walk(function) if isinstance(node, ast.Name) and isinstance(node.ctx, ast.Store)]
+                    inner += [node.name for node in ast.walk(function) if isinstance(node, ast.MatchAs) and node.name]
+                    self.none((name, function.name, word) for word in inner if word in outer)
+
+    def test_patterns(self):
+        # Beside |, a pattern has no names and no _.
+        for name, _, tree in self.each():
+            for node in ast.walk(tree):
+                if isinstance(node, ast.MatchOr):
+                    self.none((name, node.lineno) for inner in ast.walk(node) if isinstance(inner, ast.MatchAs))
+
     def test_words(self):
         for name, text, tree in self.each():
             code = re.sub(r'""".*?"""|#.*', "", text, flags=re.S)

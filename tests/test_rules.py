@@ -4,6 +4,7 @@ import unittest
 
 from rowmarks.errors import BadMode, BadName, BadRules, Impossible, UnknownTransaction
 from rowmarks.histories import first_refused, listed
+from rowmarks.ruled import Ruled
 from rowmarks.rules import Rules, every_table, is_right, told, told_by, wrong_history
 from drawn import drawn_history
 from naive_locks import RANKS
@@ -119,10 +120,17 @@ class Right(unittest.TestCase):
 
 
 class Compared(unittest.TestCase):
+    def kept(self, rows):
+        """All marks and all sets, also those from which nothing is told for now."""
+        marks = {name: {version: row.mark(version) for version in row.kept()} for name, row in rows._rows.items()}
+        return marks, {number: list(rows._book[number]) for number in rows._book.taken()}
+
     def check(self, words, history):
-        rules, naive = Rules(**words), NaiveRuled(words, VALUES)
+        rules, naive, rows = Rules(**words), NaiveRuled(words, VALUES), Ruled(tuple(words.values()), VALUES)
         for operation in history:
             naive.perform(operation)
+            rows.do(operation)
+            self.assertEqual(self.kept(rows), naive.kept(), (words, history))
         for name in VALUES:
             self.assertEqual(told_by(rules, VALUES, history, name), naive.told_by(name), (words, history, name))
             for mode in RANKS:

@@ -29,7 +29,7 @@ WRONG_OPERATIONS = (
     "change 1 x change 5 5", "change 1 x change -0", "change 1 x change +1", "change 1 x change 05", "change 1 x change -05",
     "change 1 x change --5", "change 1 x change -", "change 1 x change ", "change 1 x change 1e3", "change 1 x change 1" + "0" * 30,
     "change 1 x change -1" + "0" * 30, "change 1 x change 5.", "change 5 1 x change", "change 1 x change True", "(begin)", "'begin'",
-    "begin,", "begin;crash", "begin\x0bcrash", "clean clean", "wait 1", "None", "at 1", "save 1" + "0" * 5000,
+    "save \u00b2", "save \u0661", "change 1 x change \uff15", "begin,", "begin;crash", "begin\x0bcrash", "clean clean", "wait 1", "None", "at 1", "save 1" + "0" * 5000,
 )
 HOLD, CHANGE = (1, "locks", "hold"), (2, "changes", "change")
 WRITES = (
@@ -51,6 +51,7 @@ WRONG_WRITES = (
     "mark x +0 none", "mark X 0 none", "mark abcdefg 0 none", "mark  0 none", "mark 0 x none", "mark x 0 1", "mark x 0 set", "mark x 0 set 0",
     "mark x 0 set 1000001", "mark x 0 set 01", "mark x 0 set 1 1", "mark x 0 1 locks", "mark x 0 0 locks hold", "mark x 0 1 changes hold",
     "mark x 0 1 locks hold, 2 locks hold", "mark x 0 1, locks hold", "mark x, 0 none", "mark x 0 set 1, 1 locks hold", "mark x 0 1 made hold",
+    "marks x 0 none", "Mark x 0 none", "set x 0 none", "foo x 0 set 1", "mark x 0 sets 3", "mark x 0 none 3", "foo 1", "set \u00b2",
     "begin", "at", "at ", "at 0", "at x", "at 01", "at 1 1", "At 2", " at 2", "at  2", "at 2 ", "at 3", "at 1", "mark x 0 none\r",
 )
 
