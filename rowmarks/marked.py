@@ -1,6 +1,6 @@
 """Histories whose marks somebody else writes."""
 
-from rowmarks.histories import do_stored
+from rowmarks.histories import check_history, do_stored
 from rowmarks.kinds import is_whole, is_within
 from rowmarks.members import canonical, is_member
 from rowmarks.sets import SetBook
@@ -27,6 +27,22 @@ def has_form(value, history):
     return all([isinstance(writes, tuple) for writes in value])
 
 
+def first_wrong(values, history, value, look):
+    """Where a value is no marking, or what a look at the marks behind an operation finds; else None."""
+    check_history(values, history)
+    if not has_form(value, history):
+        return ("form",)
+    marked = Marked(values)
+    for at, operation in enumerate(history, 1):
+        index = marked.step(operation, value[at - 1])
+        if index is not None:
+            return ("write", at, index)
+        found = look(marked)
+        if found is not None:
+            return (found[0], at, *found[1:])
+    return None
+
+
 class Marked:
     """A store, and beside its own marks those that a marking writes."""
 
@@ -48,12 +64,12 @@ class Marked:
         return None
 
     def misfit(self):
-        """The first mark that does not fit its need: (name, version, side, member), else None."""
+        """The first mark that does not fit its need: ("misfit", name, version, side, member), else None."""
         for name in self.store.names:
             for version in self._marks[name]:
                 wrong = self._wrong_member(name, version)
                 if wrong is not None:
-                    return (name, version, *wrong)
+                    return ("misfit", name, version, *wrong)
         return None
 
     def held(self, name, versions):

@@ -1,7 +1,7 @@
 """Markings of histories: the store's own, whether others fit, and what tells sets apart."""
 
 from rowmarks.histories import check_history, do_stored
-from rowmarks.marked import Marked, has_form
+from rowmarks.marked import first_wrong
 from rowmarks.members import canonical
 from rowmarks.stores import Store
 
@@ -67,18 +67,12 @@ def reason(members, lost, later, store):
 
 def first_misfit(values, history, value):
     """Where a value is no marking, or its marks do not fit their needs; None if it fits."""
-    check_history(values, history)
-    if not has_form(value, history):
-        return ("form",)
-    marked = Marked(values)
-    for at, operation in enumerate(history, 1):
-        index = marked.step(operation, value[at - 1])
-        if index is not None:
-            return ("write", at, index)
-        misfit = marked.misfit()
-        if misfit is not None:
-            return ("misfit", at, *misfit)
-    return None
+    return first_wrong(values, history, value, misfit_of)
+
+
+def misfit_of(marked):
+    """The first mark that does not fit its need, else None."""
+    return marked.misfit()
 
 
 def fits_history(values, history, value):

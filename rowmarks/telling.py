@@ -3,7 +3,7 @@
 from rowmarks.errors import UnknownTransaction
 from rowmarks.histories import check_history
 from rowmarks.holders import profile_of
-from rowmarks.marked import Marked, has_form
+from rowmarks.marked import Marked, first_wrong
 
 
 def told_profile(values, history, value, number, name):
@@ -20,18 +20,7 @@ def told_profile(values, history, value, number, name):
 
 def first_untold(values, history, value):
     """Where a value is no marking, or its marks tell wrongly; None if it tells."""
-    check_history(values, history)
-    if not has_form(value, history):
-        return ("form",)
-    marked = Marked(values)
-    for at, operation in enumerate(history, 1):
-        index = marked.step(operation, value[at - 1])
-        if index is not None:
-            return ("write", at, index)
-        wrong = told_wrongly(marked)
-        if wrong is not None:
-            return ("untold", at, *wrong)
-    return None
+    return first_wrong(values, history, value, told_wrongly)
 
 
 def tells_history(values, history, value):
@@ -45,7 +34,7 @@ def told_wrongly(marked):
         for name in marked.store.names:
             ends = ends_against(marked, number, name)
             if ends is not None:
-                return (number, name, ends)
+                return ("untold", number, name, ends)
     return None
 
 

@@ -28,8 +28,12 @@ class Compared(unittest.TestCase):
         """Does one operation on both and tells whether it was done."""
         refusal = naive.full_refusal(operation)
         if refusal is None:
+            before = answers(store), [store.at(moment) for moment in range(store.horizon, store.moment() + 1)]
             do_stored(store, operation)
             naive.perform(operation)
+            if operation == ("clean",):
+                told = [store.at(moment) for moment in range(store.horizon, store.moment() + 1)]
+                self.assertEqual((answers(store), told), before)
         else:
             with self.assertRaises(MarkError) as caught:
                 do_stored(store, operation)
